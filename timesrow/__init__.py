@@ -1,0 +1,1 @@
+"""Timesrow: rows by times and plus, told back."""

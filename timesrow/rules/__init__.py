@@ -1,0 +1,1 @@
+"""Rules, the rows that they make, and the rounds of these."""
