@@ -1,5 +1,7 @@
 """What several tests need: rules one by one, rows gone through one by one, and a limit of time."""
 
+import copy
+import inspect
 import signal
 import unittest
 
@@ -58,6 +60,12 @@ def walk(table, start):
     return row, row.index(table[row[-1]])
 
 
+def fitting(row, bound):
+    """All rules of a bound that fit a row, by times and then by plus, each one tried."""
+    return [(times, plus, bound) for times in range(bound) for plus in range(bound)
+            if all((times * number + plus) % bound == later for number, later in zip(row, row[1:]))]
+
+
 def kinds(thing):
     """The thing with each value's kind beside it, so that True is not taken for 1, nor a list for a tuple."""
     if isinstance(thing, (list, tuple)):
@@ -73,3 +81,16 @@ class Checked(unittest.TestCase):
 
     def assert_told(self, told, expected):
         self.assertEqual(kinds(told), kinds(expected))
+
+    def assert_names(self, named):
+        """Each function has just these arguments, by these names."""
+        for function, names in named.items():
+            self.assertEqual(list(inspect.signature(function).parameters), names)
+
+    def assert_same_again(self, asked):
+        """Each question (function, what is handed in) is answered alike in any order, and changes nothing handed in."""
+        before = copy.deepcopy([handed for function, handed in asked])
+        first = [kinds(function(*handed)) for function, handed in asked]
+        again = [kinds(function(*handed)) for function, handed in reversed(asked)]
+        self.assertEqual(first, again[::-1])
+        self.assertEqual(kinds([handed for function, handed in asked]), kinds(before))

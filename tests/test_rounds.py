@@ -1,8 +1,7 @@
-import inspect
 import unittest
 from collections import Counter
 
-from tests.helpers import Checked, Soon, kinds, nexts, rules_to, walk
+from tests.helpers import Checked, Soon, nexts, rules_to, walk
 from timesrow.rules.rounds import all_rounds, is_one_round, round_from, steps_to
 
 GREAT = 10 ** 12
@@ -161,8 +160,7 @@ class Interface(Checked):
     def test_names_of_arguments(self):
         named = {round_from: ["rule", "start"], all_rounds: ["rule"], steps_to: ["rule", "start", "number"],
                  is_one_round: ["rule"]}
-        for function in named:
-            self.assertEqual(list(inspect.signature(function).parameters), named[function])
+        self.assert_names(named)
 
     def test_called_by_names(self):
         rule = (2, 0, 12)
@@ -174,10 +172,7 @@ class Interface(Checked):
     def test_the_same_asked_again_is_answered_the_same(self):
         rule = (2, 0, 12)
         asked = [(round_from, (rule, 1)), (all_rounds, (rule,)), (steps_to, (rule, 1, 8)), (is_one_round, (rule,))]
-        first = [kinds(function(*handed)) for function, handed in asked]
-        again = [kinds(function(*handed)) for function, handed in reversed(asked)]
-        self.assertEqual(first, again[::-1])
-        self.assertEqual(rule, (2, 0, 12))
+        self.assert_same_again(asked)
 
 
 if __name__ == "__main__":

@@ -1,8 +1,7 @@
-import inspect
 import unittest
 from math import gcd
 
-from tests.helpers import Checked, Soon, kinds, nexts, rules_to, walked
+from tests.helpers import Checked, Soon, nexts, rules_to, walked
 from timesrow.errors import NoBack, NoRule
 from timesrow.rules.steps import before, jumped, next_of, read_rule, row_from, rule_of_steps, rule_shown
 
@@ -288,8 +287,7 @@ class Interface(Checked):
         named = {read_rule: ["text"], rule_shown: ["rule"], next_of: ["rule", "number"],
                  row_from: ["rule", "start", "many"], jumped: ["rule", "start", "steps"],
                  rule_of_steps: ["rule", "steps"], before: ["rule", "number"]}
-        for function in named:
-            self.assertEqual(list(inspect.signature(function).parameters), named[function])
+        self.assert_names(named)
 
     def test_called_by_names(self):
         rule = (5, 3, 16)
@@ -305,10 +303,7 @@ class Interface(Checked):
         rule = (5, 3, 16)
         asked = [(read_rule, ("5 3 16",)), (rule_shown, (rule,)), (next_of, (rule, 7)), (row_from, (rule, 7, 5)),
                  (jumped, (rule, 7, -9)), (rule_of_steps, (rule, 9)), (before, (rule, 6))]
-        first = [kinds(function(*handed)) for function, handed in asked]
-        again = [kinds(function(*handed)) for function, handed in reversed(asked)]
-        self.assertEqual(first, again[::-1])
-        self.assertEqual(rule, (5, 3, 16))
+        self.assert_same_again(asked)
 
 
 if __name__ == "__main__":

@@ -8,9 +8,14 @@ def is_whole(thing):
     return isinstance(thing, int) and not isinstance(thing, bool)
 
 
+def is_number(thing, bound):
+    """Whether a thing is a number from 0 below the bound."""
+    return is_whole(thing) and 0 <= thing < bound
+
+
 def check_number(number, bound):
     """Refuse a number that is not from 0 below the bound."""
-    if not is_whole(number) or not 0 <= number < bound:
+    if not is_number(number, bound):
         raise NoNumber(number)
 
 
