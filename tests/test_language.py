@@ -7,8 +7,9 @@ from tests.language import faults
 
 ROOT = pathlib.Path(__file__).resolve().parent.parent
 PACKAGE = ROOT / "timesrow"
-# The interface of the modules that have landed.
-MODULES = ("errors", "rules/steps", "rules/rounds", "told/fits", "told/bounds", "told/parts")
+# The modules of the interface.
+MODULES = ("errors", "rules/steps", "rules/rounds", "told/fits", "told/bounds", "told/parts", "two/woven", "two/alike",
+           "kept", "whole")
 
 HEAD = '''"""Errors."""
 

@@ -1,0 +1,1 @@
+"""Two rows at once, and two rules that are alike."""
